@@ -1,13 +1,19 @@
 """What integers, letters and values are, and the errors for what is none."""
 
-from foldlook.errors import BadLetters, BadValue
+from foldlook.errors import BadLetters, BadSize, BadValue
 
 SIGNS = "ABCDEFGHIJKLMNOPQRSTUVWXYZ_abcdefghijklmnopqrstuvwxyz"
+MOST_SIZE = 60
 
 
 def is_whole(thing):
     """Whether something is an integer; True and False are none."""
     return isinstance(thing, int) and not isinstance(thing, bool)
+
+
+def is_whole_from(low, high, thing):
+    """Whether something is an integer from one to another one, both included."""
+    return is_whole(thing) and low <= thing <= high
 
 
 def is_letters(thing):
@@ -32,3 +38,9 @@ def check_value(letters, value):
     """Raise BadValue for what is not a value of the letters."""
     if not is_value(letters, value):
         raise BadValue("a value is a text of the letters")
+
+
+def check_size(size):
+    """Raise BadSize for what is not a size."""
+    if not is_whole_from(0, MOST_SIZE, size):
+        raise BadSize(f"a size is an integer from 0 to {MOST_SIZE}")

@@ -1,8 +1,8 @@
 """Conditions on what a machine makes, and their stands, letter by letter."""
 
-from foldlook.checks import is_value
+from foldlook.checks import is_value, is_whole_from
 from foldlook.errors import BadCondition
-from foldlook.machines import check_machine
+from foldlook.machines import check_machine, check_machines
 
 KINDS = ("equal", "begins", "between", "like")
 MOST_SIGNS = 4
@@ -50,6 +50,21 @@ def check_condition(letters, condition):
     """Raise BadCondition for what is not a condition on texts of the letters."""
     if not is_condition_on(letters, condition):
         raise BadCondition("not a condition of the letters")
+
+
+def check_filter(index, machine, condition):
+    """Raise BadMachine, Unlike or BadCondition for what is not an index and a filter."""
+    check_machines(index, machine)
+    check_condition(machine.letters, condition)
+
+
+def is_stand(condition, thing):
+    """Whether something is a stand of a condition, perhaps one that does not come about."""
+    if condition[0] == "between":
+        return is_pair_of_stands(condition[1], condition[2], thing)
+    if condition[0] == "like":
+        return is_places(condition[1], thing)
+    return is_whole_from(UNLIKE, len(condition[1]), thing)
 
 
 def first_stand(condition):
@@ -124,3 +139,17 @@ def with_skips(pattern, places):
         if place in places or skipped:
             found.append(place)
     return tuple(found)
+
+
+def is_pair_of_stands(low, high, thing):
+    """Whether something is a stand for "between" with two bounds."""
+    if not isinstance(thing, tuple) or len(thing) != 2:
+        return False
+    return is_whole_from(BEHIND, len(low), thing[0]) and is_whole_from(BEHIND, len(high), thing[1])
+
+
+def is_places(pattern, thing):
+    """Whether something is a stand for "like": ascending places, with those behind each `*`."""
+    if not isinstance(thing, tuple) or not all([is_whole_from(0, len(pattern), place) for place in thing]):
+        return False
+    return thing == with_skips(pattern, thing)

@@ -2,6 +2,9 @@
 
 from itertools import product
 
+from foldlook.conditions import KINDS
+from foldlook.machines import Machine, cut, mapped, plain, squeezed, stripped
+
 NOT_TEXTS = [None, 0, 1, True, False, b"", b"a", [], ["a"], (), ("a",), {}, {"a": 1}, {"a"}, object()]
 
 NOT_LETTERS = NOT_TEXTS + [
@@ -10,6 +13,16 @@ NOT_LETTERS = NOT_TEXTS + [
 ]
 
 NOT_MACHINES = [None, 0, True, "ab", ("ab", (((0, "a"), (0, "b")),)), [], (), {}, object()]
+
+# No conditions on texts of the letters ab.
+NOT_CONDITIONS = NOT_TEXTS + [
+    "equal", ("equal",), ("equal", "a", "b"), ("between", "a"), ("like", None), ("begins", 0), ["equal", "a"],
+    ("equal", "c"), ("equal", "ababa"), ("like", "*****"), ("like", "c"), ("begins", "?"), ("Equal", "a"),
+    ("between", "a", "c"), ("between", True, "a"), ("equal", ["a"]),
+]
+
+# No values with the letters ab.
+NOT_VALUES = NOT_TEXTS + ["c", "abc", "A", "a ", " ", "a\n", "?", "_"]
 
 
 def texts(signs, most):
@@ -25,3 +38,49 @@ def caught(error, call, *arguments):
         assert wrong.__class__ is error, (wrong.__class__, error, arguments)
         return wrong
     raise AssertionError(f"no {error.__name__} for {arguments!r}, but {given!r}")
+
+
+def drawn_machine(chance, letters, most, silent):
+    """A machine with up to so many states; of ten of its turns, silent ones make nothing."""
+    many = chance.randint(1, most)
+
+    def drawn_turn():
+        out = "" if chance.randrange(10) < silent else chance.choice(letters)
+        return (chance.randrange(many), out)
+
+    return Machine(letters, tuple(tuple(drawn_turn() for _ in letters) for _ in range(many)))
+
+
+def drawn_condition(chance, letters, most=4):
+    """A condition with texts of at most so many signs."""
+
+    def drawn(signs):
+        return "".join(chance.choice(signs) for _ in range(chance.randint(0, most)))
+
+    word = chance.choice(KINDS)
+    if word == "between":
+        return (word, drawn(letters), drawn(letters))
+    return (word, drawn(letters + "?**" if word == "like" else letters))
+
+
+def ready_machines(letters):
+    """Machines as [3] tells them, for letters."""
+    first, last = letters[0], letters[-1]
+    found = [plain(letters), mapped(letters, (last,) * len(letters)), mapped(letters, ("",) + tuple(letters[1:]))]
+    found += [mapped(letters, ("",) * len(letters)), cut(letters, 0), cut(letters, 1), cut(letters, 2)]
+    return found + [stripped(letters, first), squeezed(letters, last), squeezed(letters, letters)]
+
+
+def ring(many, out):
+    """A machine with so many states one behind another; each letter makes the same, None stands for itself."""
+    rows = (((at + 1) % many, out) for at in range(many))
+    return Machine("ab", tuple(tuple((at, sign if made is None else made) for sign in "ab") for at, made in rows))
+
+
+def drawn_pair(chance, most=4):
+    """An index and a machine, some of them of a kind that often tells."""
+    letters = chance.choice(["ab", "ba", "abc", "_aAb"])
+    ready = ready_machines(letters)
+    drawn = [drawn_machine(chance, letters, most, chance.choice([0, 3, 6])) for _ in range(len(ready))]
+    index = chance.choice(ready + drawn)
+    return index, chance.choice(ready + drawn + [index] * len(ready))
