@@ -24,6 +24,12 @@ NOT_CONDITIONS = NOT_TEXTS + [
 # No values with the letters ab.
 NOT_VALUES = NOT_TEXTS + ["c", "abc", "A", "a ", " ", "a\n", "?", "_"]
 
+# No lists or tuples of something.
+NOT_GROUPS = [
+    None, 0, 1, True, "", "a", "ab", b"ab", {}, {0: ("equal", "a")}, {("equal", "a"): 1}, {"a"}, object(), range(1),
+    iter([("equal", "a")]), [], (),
+]
+
 
 def texts(signs, most):
     """All texts of some signs with at most so many of them, the shorter ones first."""
@@ -61,6 +67,15 @@ def drawn_condition(chance, letters, most=4):
     if word == "between":
         return (word, drawn(letters), drawn(letters))
     return (word, drawn(letters + "?**" if word == "like" else letters))
+
+
+def near_machine(chance, machine):
+    """A machine that differs in one turn at most."""
+    state, at = chance.randrange(len(machine)), chance.randrange(len(machine.letters))
+    turn = (chance.randrange(len(machine)), chance.choice(["", *machine.letters]))
+    rows = [list(row) for row in machine.rows]
+    rows[state][at] = turn
+    return Machine(machine.letters, tuple(tuple(row) for row in rows))
 
 
 def ready_machines(letters):
