@@ -93,7 +93,7 @@ def choices(offers):
     found = [()]
     for index in range(len(offers)):
         found = found + [choice + (index,) for choice in found]
-    return sorted(found, key=lambda choice: (price_of(offers, choice), choice))
+    return [choice for _, choice in sorted([(price_of(offers, choice), choice) for choice in found])]
 
 
 def are_all_mixed(machines, asked, thing):
