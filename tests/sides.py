@@ -113,5 +113,10 @@ def search_behind(index, question, spot):
     return [slow.behind(index, question, spot[0], spot[1], letter)[:2] for letter in index.letters]
 
 
+def search_after(index, question, value):
+    """The spot after a value."""
+    return (index.state_after(value), stand(index, question, value))
+
+
 def search_spots(index, question):
-    return by_values(index.letters, lambda value: (index.state_after(value), stand(index, question, value)))
+    return by_values(index.letters, lambda value: search_after(index, question, value))

@@ -357,9 +357,9 @@ class ReadConditionTest(unittest.TestCase):
             "Equal ab", "EQUAL ab", "equals ab", "equal", "equal ", "equal  ab", " equal ab", "equal ab ", "equal\tab",
             "equal ab b", "equal - -", "equal --", "equal a-", "equal -a", "equal ababa", "equal c", "equal ?",
             "equal *", "between ab", "between a b a", "between a", "between - ", "between  a b", "between a  b",
-            "between ababa -", "between - ababa", "between a -b", "between a ?", "like a b", "like *****", "like a-", "like -*",
-            "like c", "like", "like ", "begins ?", "begins - ab", "ab", "-", "- a", "letters ab", "state 0a 0b",
-            "equal a\u00e4", "",
+            "between ababa -", "between - ababa", "between a -b", "between a ?", "like a b", "like *****", "like a-",
+            "like -*", "like c", "like", "like ", "begins ?", "begins - ab", "ab", "-", "- a", "letters ab",
+            "state 0a 0b", "equal a\u00e4", "",
         ):
             self.wrong(line + "\n", 0)
             self.wrong(line + "\nequal ab\n", 0)
