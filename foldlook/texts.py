@@ -35,7 +35,7 @@ def read_machine(text):
         if row is None or len(rows) == MOST_STATES:
             raise BadText(at)
         rows.append(row)
-    if rows == [] or rest != "" or not all([state < len(rows) for row in rows for state, _ in row]):
+    if rows == [] or rest != "" or not all([state < len(rows) for turns in rows for state, _ in turns]):
         raise BadText(len(lines))
     return Machine(letters, tuple(rows))
 

@@ -2,8 +2,14 @@
 
 import unittest
 
+from foldlook.choices import Cheapest, Unserved, cheapest
 from foldlook.conditions import stand
+from foldlook.cutting import Least, NoLeast, cut_for
+from foldlook.desks import Desk
 from foldlook.doubts import Bounded, Endless, doubts
+from foldlook.exchanges import Settled, Unsettled, exchange
+from foldlook.finding import Hits, Vain, find
+from foldlook.joining import Beyond, Fits, Lacks, combine
 from foldlook.looks import Exact, Misses, More, judge
 from foldlook.machines import cut, mapped, plain
 from foldlook.orders import Crosses, Rises, order
@@ -26,7 +32,26 @@ CLASSES = {
     Bounded: (
         ("longest", "mixed", "bounds"), (2, ("A", "a"), {((0, 0, 0),): 2, (): -1}), (None, None, {((0, 0, 0),): -1}),
     ),
+    Settled: (("spots",), ([(0, 0, ((0, 0),))],), ([],)),
+    Unsettled: (("value", "which"), ("A", 0), ("a", 1)),
+    Cheapest: (
+        ("choice", "served", "against"),
+        ((0,), [(0, [((0, 0, 0), (0, 0, 0))])], {(): (0, ()), (1,): (0, (("A", "a"),))}),
+        ((), [], {(): (0, ())}),
+    ),
+    Unserved: (("which", "mixed"), (0, [("A", "a")]), (1, [])),
+    Fits: (("spots",), ([(((0, 0),), 0, 0)],), ([],)),
+    Beyond: (("spots", "value"), ([(((0, 0),), 0, 0)], "A"), ([], "a")),
+    Lacks: (("value",), ("A",), ("a",)),
+    Vain: (("spots",), ([(0, 0)],), ([],)),
+    Hits: (("value",), ("A",), ("a",)),
+    Least: (("number", "pairs", "mixed"), (1, [((0, 0, 0), (0, 0, 0))], ("A", "a")), (0, [], None)),
+    NoLeast: (("mixed",), (("A", "a"),), (("", "Aa"),)),
 }
+
+OFFERS = [(WHOLE, 3), (SMALL, 1), (SHORT, 1)]
+FILTERS = [(WHOLE, ("begins", "A")), (SMALL, ("equal", "a")), (SHORT, ("equal", "a"))]
+LOOKS = [(WHOLE, ("begins", "A")), (SHORT, ("equal", "A"))]
 
 # For each class, arguments for which the first of two calls gives such an answer, and the second one, too.
 CASES = [
@@ -41,6 +66,17 @@ CASES = [
     (order, (WHOLE, SMALL), Crosses),
     (doubts, (SMALL, WHOLE, ("begins", "A")), Endless),
     (doubts, (SMALL, WHOLE, ("equal", "Aa")), Bounded),
+    (exchange, (WHOLE, SMALL, [("like", "?")]), Settled),
+    (exchange, (WHOLE, SMALL, [("equal", "a")]), Unsettled),
+    (cheapest, (OFFERS, FILTERS), Cheapest),
+    (cheapest, (OFFERS[1:], [(WHOLE, ("equal", "aA"))] + FILTERS[:1]), Unserved),
+    (combine, (LOOKS, "all", WHOLE, ("begins", "A")), Fits),
+    (combine, (LOOKS, "any", WHOLE, ("equal", "Aa")), Beyond),
+    (combine, ([(WHOLE, ("equal", "Aa"))], "all", WHOLE, ("begins", "A")), Lacks),
+    (find, (SHORT, ("equal", "Aa")), Vain),
+    (find, (WHOLE, ("begins", "A")), Hits),
+    (cut_for, (WHOLE, ("begins", "Aa")), Least),
+    (cut_for, (WHOLE, ("like", "*A")), NoLeast),
 ]
 
 
@@ -70,6 +106,26 @@ class AttributesTest(unittest.TestCase):
                     mine = given.copy()
                     getattr(kind(*[mine if other is given else other for other in first]), name).clear()
                     self.assertEqual(mine, given)
+
+    def test_the_lists_within_served_are_copied(self):
+        given = [(0, [((0, 0, 0), (0, 0, 0))]), (1, [])]
+        answer = Cheapest((0, 1), given, {})
+        self.assertEqual(answer.served, given)
+        given[0][1].clear()
+        given[1][1].append(1)
+        self.assertEqual(answer.served, [(0, [((0, 0, 0), (0, 0, 0))]), (1, [])])
+        # Each object has its own.
+        one, other = cheapest(OFFERS, FILTERS), cheapest(OFFERS, FILTERS)
+        again = Cheapest(one.choice, one.served, one.against)
+        one.served[0][1].clear()
+        self.assertIs(one.shows(OFFERS, FILTERS), False)
+        self.assertNotEqual(one, other)
+        for answer in (other, again, cheapest(OFFERS, FILTERS)):
+            self.assertEqual(answer, other)
+            self.assertIs(answer.shows(OFFERS, FILTERS), True)
+        # So has each filter, if two of them are the same.
+        twice = cheapest(OFFERS, FILTERS[:1] * 2)
+        self.assertIsNot(twice.served[0][1], twice.served[1][1])
 
     def test_what_is_told_is_new(self):
         for call, given, kind in CASES:
@@ -103,10 +159,13 @@ class EqualityTest(unittest.TestCase):
         self.assertNotEqual(Exact([(0, 0, 0, 0), (0, 1, 0, 1)]), Exact([(0, 1, 0, 1), (0, 0, 0, 0)]))
         self.assertNotEqual(Served([1, 1]), Served([1]))
         self.assertEqual(Bounded(None, None, {(): -1, (1,): 0}), Bounded(None, None, {(1,): 0, (): -1}))
+        one, other = (0, ()), (1, (("A", "a"),))
+        self.assertEqual(Cheapest((0,), [], {(): one, (1,): other}), Cheapest((0,), [], {(1,): other, (): one}))
+        self.assertNotEqual(Unserved(0, [("A", "a"), ("", "a")]), Unserved(0, [("", "a"), ("A", "a")]))
 
     def test_of_different_classes(self):
         objects = [kind(*first) for kind, (_, first, _) in CLASSES.items()]
-        objects += [kind(*second) for kind, (_, _, second) in CLASSES.items()] + [WHOLE, SMALL]
+        objects += [kind(*second) for kind, (_, _, second) in CLASSES.items()] + [WHOLE, SMALL, Desk(WHOLE)]
         for at, one in enumerate(objects):
             for place, other in enumerate(objects):
                 self.assertIs(one == other, at == place)
@@ -151,6 +210,11 @@ class NowTest(unittest.TestCase):
         self.assertIs(order(*CASES[7][1]).shows(WHOLE, SMALL), False)
         self.assertIs(doubts(*CASES[9][1]).shows(WHOLE, SMALL, ("begins", "a")), False)
         self.assertIs(doubts(*CASES[10][1]).shows(SMALL, WHOLE, ("begins", "A")), False)
+        self.assertIs(exchange(*CASES[11][1]).shows(WHOLE, SMALL, [("equal", "a")]), False)
+        self.assertIs(cheapest(*CASES[13][1]).shows(OFFERS[:1], FILTERS), False)
+        self.assertIs(combine(*CASES[15][1]).shows(LOOKS, "any", WHOLE, ("equal", "A")), False)
+        self.assertIs(find(*CASES[18][1]).shows(WHOLE, ("equal", "Aa")), False)
+        self.assertIs(cut_for(*CASES[20][1]).shows(WHOLE, ("begins", "aA")), False)
 
 
 def wrong_attributes(right):
@@ -158,7 +222,7 @@ def wrong_attributes(right):
     if isinstance(right, list):
         return [[], right[1:] + [right[0] + (0,)], [()] + right]
     if isinstance(right, dict):
-        return [{}, {cloud: number + 1 for cloud, number in right.items()}]
+        return [{}, {key: worth + (1 if isinstance(worth, int) else (0,)) for key, worth in right.items()}]
     if isinstance(right, str):
         return [None, "b", right + "?"]
     if isinstance(right, tuple):

@@ -3,70 +3,10 @@
 import inspect
 import unittest
 
-from foldlook import conditions, doubts, looks, machines, orders, serving
-
-FUNCTIONS = {
-    machines: {
-        "behind": ["one", "other"],
-        "plain": ["letters"],
-        "mapped": ["letters", "outs"],
-        "cut": ["letters", "many"],
-        "stripped": ["letters", "some"],
-        "squeezed": ["letters", "some"],
-        "compare": ["letters", "one", "other"],
-    },
-    conditions: {
-        "is_condition": ["machine", "thing"],
-        "meets": ["machine", "condition", "value"],
-        "stand": ["machine", "condition", "value"],
-    },
-    looks: {
-        "judge": ["index", "question", "machine", "condition"],
-        "shortest_unlike": ["index", "question", "machine", "condition"],
-        "found_in": ["index", "question", "values"],
-    },
-    serving: {
-        "serve": ["index", "machine", "condition"],
-        "can_serve": ["index", "machine", "condition"],
-        "least_mixed": ["index", "machine", "condition"],
-        "tell": ["index", "machine"],
-        "does_tell": ["index", "machine"],
-        "least_blurred": ["index", "machine"],
-    },
-    orders: {
-        "order": ["index", "machine"],
-        "keeps_order": ["index", "machine"],
-    },
-    doubts: {
-        "doubts": ["index", "machine", "condition"],
-        "are_endless": ["index", "machine", "condition"],
-        "is_doubtful": ["index", "machine", "condition", "key"],
-        "count_doubtful": ["index", "machine", "condition", "size"],
-    },
-}
-
-# The arguments of each class, and of its method shows.
-ANSWERS = {
-    looks: {
-        "Exact": (["spots"], ["index", "question", "machine", "condition"]),
-        "More": (["spots", "value"], ["index", "question", "machine", "condition"]),
-        "Misses": (["value"], ["index", "question", "machine", "condition"]),
-    },
-    serving: {
-        "Served": (["pairs"], ["index", "machine", "condition"]),
-        "Mixed": (["one", "other"], ["index", "machine", "condition"]),
-        "Tells": (["pairs"], ["index", "machine"]),
-        "Blurs": (["one", "other"], ["index", "machine"]),
-    },
-    orders: {
-        "Rises": (["pairs"], ["index", "machine"]),
-        "Crosses": (["one", "other"], ["index", "machine"]),
-    },
-    doubts: {
-        "Endless": (["head", "loop", "tail"], ["index", "machine", "condition"]),
-        "Bounded": (["longest", "mixed", "bounds"], ["index", "machine", "condition"]),
-    },
-}
+from foldlook import (
+    choices, conditions, cutting, desks, doubts, exchanges, finding, joining, looks, machines, orders, serving, texts,
+)
+from interface import ANSWERS, DESK, FUNCTIONS
 
 
 class InterfaceTest(unittest.TestCase):
@@ -134,6 +74,57 @@ class InterfaceTest(unittest.TestCase):
         self.assertFalse(doubts.are_endless(**asked))
         self.assertFalse(doubts.is_doubtful(**asked, key="a"))
         self.assertEqual(doubts.count_doubtful(**asked, size=1), 0)
+
+    def test_later_answers_take_their_arguments_by_name(self):
+        whole, condition = machines.plain("ab"), ("begins", "a")
+        given = {"elder": whole, "newer": whole, "questions": [condition]}
+        self.assertTrue(exchanges.exchange(**given).shows(**given))
+        self.assertIsNone(exchanges.shortest_rewrite(**given))
+        self.assertFalse(exchanges.must_rewrite(**given, value="a"))
+        self.assertEqual(exchanges.count_rewrites(**given, size=3), 0)
+        given = {"offers": [(whole, 1)], "filters": [(whole, condition)]}
+        self.assertEqual(choices.choices(offers=[(whole, 1)]), [(), (0,)])
+        self.assertTrue(choices.cheapest(**given).shows(**given))
+        self.assertEqual(choices.least_price(**given), 1)
+        given = {"looks": [(whole, condition)], "way": "all", "machine": whole, "condition": condition}
+        self.assertTrue(joining.combine(**given).shows(**given))
+        self.assertTrue(joining.fits(**given))
+        self.assertEqual(joining.shortest_apart(**given), (None, None))
+        given = {"index": whole, "question": condition}
+        self.assertTrue(finding.find(**given).shows(**given))
+        self.assertFalse(finding.is_vain(**given))
+        self.assertEqual(finding.shortest_hit(**given), 1)
+        self.assertFalse(finding.finds_all(**given))
+        given = {"machine": whole, "condition": condition}
+        self.assertTrue(cutting.cut_for(**given).shows(**given))
+        self.assertEqual(cutting.least_cut(**given), 1)
+
+    def test_texts_take_their_arguments_by_name(self):
+        text = texts.machine_text(machine=machines.plain("ab"))
+        self.assertEqual(texts.read_machine(text=text), machines.plain("ab"))
+        text = texts.condition_text(letters="ab", condition=("equal", ""))
+        self.assertEqual(texts.read_condition(letters="ab", text=text), ("equal", ""))
+
+    def test_desk_has_its_methods_itself(self):
+        arguments, methods, properties = DESK
+        own = vars(desks.Desk)
+        self.assertEqual(desks.Desk.__module__, "foldlook.desks")
+        self.assertEqual(list(inspect.signature(desks.Desk).parameters), arguments)
+        for name, arguments in methods.items():
+            self.assertTrue(inspect.isfunction(own[name]), name)
+            self.assertEqual(list(inspect.signature(own[name]).parameters), ["self"] + arguments)
+        for name in properties:
+            self.assertIsInstance(own[name], property)
+
+    def test_desk_takes_its_arguments_by_name(self):
+        whole = machines.plain("ab")
+        desk = desks.Desk(index=whole)
+        self.assertEqual(desk.put(value="a"), 0)
+        self.assertEqual(desk.renew(row=0), "a")
+        self.assertEqual(desk.adopt(machine=whole), whole)
+        self.assertEqual(desk.ask(question=("equal", "a")), [0])
+        self.assertEqual(desk.take(row=0), "a")
+        self.assertEqual(desk.attempt(work=len), 0)
 
     def test_kinds(self):
         self.assertEqual(conditions.KINDS, ("equal", "begins", "between", "like"))
