@@ -276,6 +276,23 @@ class CheapestShowsTest(unittest.TestCase):
         self.assertIs(Cheapest((0,), told.served, {(): (0, ())}).shows(offers, filters), True)
         self.assertIs(Cheapest((0,), told.served, against).shows(offers, filters), False)
 
+    def test_indices_from_the_end(self):
+        # They find an offer, or a filter, but are no indices.
+        offers, filters = [(WHOLE, 1)], [(WHOLE, ("equal", "a"))]
+        told = cheapest(offers, filters)
+        pairs = told.served[0][1]
+        for choice, index, which in (((0,), 0, -1), ((0,), -1, 0), ((-1,), 0, 0), ((-1,), -1, 0), ((-1,), -1, -1)):
+            answer = Cheapest(choice, [(index, pairs)], {(): (which, ())})
+            self.assertIs(answer.shows(offers, filters), False)
+        self.assertIs(Cheapest((0,), [(0, pairs)], {(): (0, ())}).shows(offers, filters), True)
+        offers.append((SMALL, 2))
+        self.assertIs(Cheapest((0,), [(0, pairs)], {(): (0, ())}).shows(offers, filters), True)
+        offers = [(WHOLE, 2), (SMALL, 1)]
+        told = cheapest(offers, [(WHOLE, ("equal", "a"))])
+        self.assertEqual((told.choice, list(told.against)), ((0,), [(), (1,)]))
+        against = {(): told.against[()], (-1,): told.against[(1,)]}
+        self.assertIs(Cheapest((0,), told.served, against).shows(offers, filters), False)
+
     def test_true_in_a_cheaper_choice(self):
         offers = [(WHOLE, 3), (SMALL, 1)]
         filters = [(WHOLE, ("equal", "a")), (WHOLE, ("equal", "A"))]
@@ -369,6 +386,18 @@ class CheapestShowsTest(unittest.TestCase):
         for pair in (("A",), ("A", "a", "a"), ("A", "b"), ("B", "a"), ("A", ""), ("", "a"), ()):
             self.hold(False, against={**against, (1,): (0, (pair,))})
 
+    def test_lists_that_are_no_pairs_and_no_tuples(self):
+        found = self.found
+        which, mixed = found.against[(1,)]
+        for wrong in ([which, mixed], (which, list(mixed)), (which, ([*mixed[0]],)), (which, mixed, mixed), (which,)):
+            answer = Cheapest(found.choice, found.served, {**found.against, (1,): wrong})
+            self.assertIs(answer.shows(OFFERS, FILTERS), False, wrong)
+        index, pairs = found.served[0]
+        for wrong in ([index, pairs], (index, pairs, pairs), (index,), ()):
+            answer = copy.copy(found)
+            answer.served = [wrong] + found.served[1:]
+            self.assertIs(answer.shows(OFFERS, FILTERS), False, wrong)
+
     def test_values_for_each_offer_of_a_choice(self):
         offers = [(WHOLE, 9), (SMALL, 1), (SHORT, 1)]
         filters = [(WHOLE, ("begins", "A")), (WHOLE, ("equal", "Aa"))]
@@ -431,6 +460,9 @@ class UnservedTest(unittest.TestCase):
     def test_another_filter(self):
         for which in (-3, -2, -1, 0, 2, 3, 10 ** 20, True, False, None, "1", (1,)):
             self.hold(which, self.good, False)
+        # Values that are right for the filter that stands there, counted from the end.
+        self.hold(-2, self.good, False)
+        self.hold(-1, [("A", "a"), ("AA", "Aa")], False)
         # Served by the second offer, so that no values can show it.
         for pair in (("A", "a"), ("Aa", "aa"), ("aA", "aa")):
             self.hold(0, [("A", "a"), pair], False)

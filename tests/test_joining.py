@@ -17,9 +17,18 @@ from helper import (
 from large import BEYOND_400, BEYOND_401, FITS_400, FITS_401, LACKS_400, LACKS_401
 
 WAYS = ("all", "any")
+
+
+class Same:
+    """What says that it is equal to anything."""
+
+    def __eq__(self, other):
+        return True
+
+
 NOT_WAYS = [
     None, 0, 1, True, False, "", "ALL", "Any", "all ", " any", "any\n", "both", "allany", "al", b"all", ["all"],
-    ("any",), {"all"}, {"any": "any"}, object(),
+    ("any",), {"all"}, {"any": "any"}, object(), Same(),
 ]
 AB, SHORT, SMALL = plain("ab"), cut("ab", 1), mapped("ab", ("a", "a"))
 

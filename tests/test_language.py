@@ -1,6 +1,7 @@
 """Those rules of the language of the package that a short look at its files can tell."""
 
 import ast
+import builtins
 import pathlib
 import re
 import unittest
@@ -81,6 +82,30 @@ class LanguageTest(unittest.TestCase):
             self.assertNotEqual(free, [], left)
             for name in free:
                 del left[name]
+
+    def test_no_local_name_is_that_of_a_class_an_import_or_a_builtin(self):
+        for file in FILES:
+            taken = {name.name for part in imported(file) for name in part.names}
+            taken |= {part.name for part in tree(file).body if isinstance(part, ast.ClassDef)}
+            for part in ast.walk(tree(file)):
+                if isinstance(part, ast.arg):
+                    self.assertFalse(part.arg in taken or hasattr(builtins, part.arg), (file, part.arg))
+                if isinstance(part, ast.Name) and isinstance(part.ctx, ast.Store):
+                    self.assertFalse(part.id in taken or hasattr(builtins, part.id), (file, part.id))
+
+    def test_no_name_is_a_method_and_an_attribute(self):
+        classes = [part for file in FILES for part in ast.walk(tree(file)) if isinstance(part, ast.ClassDef)]
+        methods = [part.name for kind in classes for part in kind.body if isinstance(part, ast.FunctionDef)]
+        stored = [part.attr for file in FILES for part in ast.walk(tree(file))
+                  if isinstance(part, ast.Attribute) and isinstance(part.ctx, ast.Store)]
+        self.assertEqual(set(methods) & set(stored), set())
+        self.assertEqual(set(methods) & set(dir(str) + dir(list) + dir(dict) + dir(int) + dir(set)) - DOUBLE, set())
+
+    def test_sorting(self):
+        for file in FILES:
+            for part in ast.walk(tree(file)):
+                if isinstance(part, ast.Call) and isinstance(part.func, ast.Name) and part.func.id == "sorted":
+                    self.assertEqual((len(part.args), part.keywords), (1, []), file)
 
     def test_what_is_not_used(self):
         for file in FILES:
