@@ -93,7 +93,7 @@ class CutForTest(unittest.TestCase):
     def test_against_pairs_of_values(self):
         chance = random.Random(16)
         seen = {}
-        for _ in range(400):
+        for _ in range(300):
             given = drawn_filter(chance)
             due = least_of(*given)
             seen[due] = seen.get(due, 0) + 1
@@ -113,7 +113,7 @@ class CutForTest(unittest.TestCase):
             else:
                 self.assertTrue(is_mixed(5 if due is None else due - 1, *given, *found.mixed))
         self.assertEqual(set(seen), {0, 1, 2, 3, 4, 5, None, "large"})
-        self.assertTrue(all(many > 20 for due, many in seen.items() if due != "large"), seen)
+        self.assertTrue(all(many > 10 for due, many in seen.items() if due != "large"), seen)
 
     def test_all_values_up_to_some_length(self):
         values = texts("ab", 6)
@@ -160,8 +160,12 @@ class PairsTest(ListsTest, unittest.TestCase):
         numbers = [0, 0, 1, 1, 2, 2, 3, 3, 4, 4, 5, 5] * 2
         while len(cls.cases) < len(numbers):
             given = drawn_filter(cls.chance, 3)
-            if least_of(*given) == numbers[len(cls.cases)] and len(cut_for(*given).pairs) < 40:
-                cls.cases.append(least_case(given, cut_for(*given)))
+            try:
+                answer = cut_for(*given)
+            except TooLarge:
+                continue
+            if isinstance(answer, Least) and answer.number == numbers[len(cls.cases)] and len(answer.pairs) < 40:
+                cls.cases.append(least_case(given, answer))
 
     def test_pairs_of_another_number(self):
         for given in FILTERS[:-1]:
